@@ -1,0 +1,1 @@
+"""Freshrooms: machines over names from an endless store."""

@@ -1,0 +1,148 @@
+"""The package keeps to its small part of the language, as far as a look at the code can tell.
+
+So nothing can hang on a clock, chance or files either: there is no import and no built-in name to reach one.
+"""
+
+import ast
+import builtins
+import pathlib
+import re
+import unittest
+
+ROOT = pathlib.Path(__file__).resolve().parent.parent
+PACKAGE = ROOT / "freshrooms"
+
+STATEMENTS = """Module FunctionDef arguments arg ClassDef Assign AugAssign If While For Return Break Continue Pass Raise Try
+ExceptHandler Expr ImportFrom alias"""
+EXPRESSIONS = """Constant Name Load Store List Tuple Dict Set BinOp Add Sub Mult FloorDiv Mod Pow BitAnd BitOr BitXor LShift
+RShift UnaryOp Not USub UAdd Invert Compare Eq NotEq Lt LtE Gt GtE In NotIn Is IsNot BoolOp And Or IfExp Call keyword
+Attribute Subscript Slice ListComp comprehension JoinedStr FormattedValue Lambda"""
+NODES = (STATEMENTS + " " + EXPRESSIONS).split()
+
+OWN_NAMES = """len range enumerate zip min max sum abs sorted reversed int str bool list tuple dict set frozenset isinstance
+ord repr any all divmod ValueError KeyError IndexError LookupError ZeroDivisionError OverflowError StopIteration
+Exception""".split()
+
+METHODS = """append clear copy count endswith extend find get index insert isalnum isalpha isdigit islower isspace isupper items
+join keys ljust lower lstrip partition pop remove replace reverse rfind rjust rpartition rsplit rstrip setdefault split
+splitlines startswith strip update upper values zfill bit_length""".split()
+
+BANNED_WORDS = """type typing typing_extensions enum Enum IntEnum StrEnum Flag IntFlag Generic Protocol ABC ABCMeta namedtuple
+NamedTuple TypedDict TYPE_CHECKING abstractmethod""".split()
+BANNED_PARTS = ["dataclass", "overload", "contextmanager"]
+
+
+def package_files():
+    return sorted(path for path in PACKAGE.iterdir() if path.name != "__pycache__")
+
+
+def parsed_files():
+    texts = [(path.name, path.read_text(encoding="utf-8")) for path in package_files()]
+    return [(name, text, ast.parse(text)) for name, text in texts]
+
+
+def bound_names(tree):
+    names = set()
+    for node in ast.walk(tree):
+        if isinstance(node, (ast.FunctionDef, ast.ClassDef)):
+            names.add(node.name)
+        elif isinstance(node, ast.arg):
+            names.add(node.arg)
+        elif isinstance(node, ast.Name) and isinstance(node.ctx, ast.Store):
+            names.add(node.id)
+        elif isinstance(node, ast.ExceptHandler) and node.name:
+            names.add(node.name)
+        elif isinstance(node, ast.ImportFrom):
+            names.update(alias.name for alias in node.names)
+    return names
+
+
+def top_names(tree):
+    names = []
+    for node in tree.body:
+        if isinstance(node, (ast.FunctionDef, ast.ClassDef)):
+            names.append(node.name)
+        elif isinstance(node, ast.Assign):
+            names.append(node.targets[0].id)
+    return names
+
+
+class LanguageTest(unittest.TestCase):
+    def test_the_folder(self):
+        names = [path.name for path in package_files()]
+        self.assertIn("__init__.py", names)
+        for name in names:
+            self.assertRegex(name, r"\A[a-z0-9_]+\.py\Z")
+
+    def test_signs_and_sizes(self):
+        for file, text, tree in parsed_files():
+            with self.subTest(file=file):
+                self.assertRegex(text, r"\A[ -~\n]*\Z")
+                lines = text.splitlines()
+                self.assertLessEqual(len(lines), 400)
+                self.assertLessEqual(max(len(line) for line in lines), 120)
+                for node in ast.walk(tree):
+                    if isinstance(node, ast.FunctionDef):
+                        self.assertLessEqual(node.end_lineno - node.lineno + 1, 40, node.name)
+
+    def test_words_that_stand_nowhere(self):
+        for file, text, tree in parsed_files():
+            with self.subTest(file=file):
+                self.assertEqual(set(re.findall(r"\w+", text)) & set(BANNED_WORDS), set())
+                for part in BANNED_PARTS:
+                    self.assertNotIn(part, text)
+
+    def test_only_the_allowed_forms(self):
+        for file, text, tree in parsed_files():
+            with self.subTest(file=file):
+                for node in ast.walk(tree):
+                    self.assertIn(node.__class__.__name__, NODES, getattr(node, "lineno", None))
+                    if isinstance(node, (ast.FunctionDef, ast.ClassDef)):
+                        self.assertEqual(node.decorator_list, [])
+                    if isinstance(node, ast.comprehension):
+                        self.assertLessEqual(len(node.ifs), 1)
+                    if isinstance(node, ast.ListComp):
+                        self.assertEqual(len(node.generators), 1)
+                    if isinstance(node, ast.Assign):
+                        self.assertEqual(len(node.targets), 1)
+                    if isinstance(node, ast.Constant):
+                        self.assertIsInstance(node.value, (int, str, type(None)))
+
+    def test_imports(self):
+        for file, text, tree in parsed_files():
+            with self.subTest(file=file):
+                for node in ast.walk(tree):
+                    if isinstance(node, ast.ImportFrom):
+                        self.assertEqual(node.level, 0)
+                        self.assertIn(node, tree.body)
+                        self.assertRegex(node.module, r"\Afreshrooms\.[a-z]+\Z")
+                        source = ROOT / (node.module.replace(".", "/") + ".py")
+                        for alias in node.names:
+                            self.assertIn(alias.name, top_names(ast.parse(source.read_text(encoding="utf-8"))))
+
+    def test_names(self):
+        for file, text, tree in parsed_files():
+            with self.subTest(file=file):
+                own = bound_names(tree)
+                self.assertEqual(own & set(dir(builtins)), set())
+                self.assertEqual(len(top_names(tree)), len(set(top_names(tree))))
+                for name in own:
+                    self.assertRegex(name, r"\A(?:[A-Za-z][A-Za-z0-9_]*|__init__)\Z")
+                for node in ast.walk(tree):
+                    if isinstance(node, ast.Name) and isinstance(node.ctx, ast.Load):
+                        self.assertIn(node.id, own | set(OWN_NAMES), node.lineno)
+
+    def test_methods(self):
+        own = set()
+        for file, text, tree in parsed_files():
+            with self.subTest(file=file):
+                own |= {node.name for node in ast.walk(tree) if isinstance(node, ast.FunctionDef)}
+        for file, text, tree in parsed_files():
+            with self.subTest(file=file):
+                for node in ast.walk(tree):
+                    if isinstance(node, ast.Call) and isinstance(node.func, ast.Attribute):
+                        self.assertIn(node.func.attr, METHODS + sorted(own), node.lineno)
+
+
+if __name__ == "__main__":
+    unittest.main()
