@@ -120,6 +120,44 @@ class LanguageTest(unittest.TestCase):
                         for alias in node.names:
                             self.assertIn(alias.name, top_names(ast.parse(source.read_text(encoding="utf-8"))))
 
+    def test_no_two_files_draw_from_one_another(self):
+        drawn = {}
+        for file, text, tree in parsed_files():
+            modules = [node.module for node in tree.body if isinstance(node, ast.ImportFrom)]
+            drawn["freshrooms." + file.removesuffix(".py")] = set(modules)
+        while drawn:
+            ready = [module for module in drawn if not drawn[module] & set(drawn)]
+            self.assertNotEqual(ready, [], sorted(drawn))
+            drawn = {module: drawn[module] for module in drawn if module not in ready}
+
+    def test_is_stands_beside_none_and_truths_alone(self):
+        for file, text, tree in parsed_files():
+            with self.subTest(file=file):
+                for node in ast.walk(tree):
+                    if isinstance(node, ast.Compare) and isinstance(node.ops[0], (ast.Is, ast.IsNot)):
+                        self.assertIsInstance(node.comparators[0], ast.Constant, node.lineno)
+
+    def test_texts_and_f_strings(self):
+        for file, text, tree in parsed_files():
+            with self.subTest(file=file):
+                for node in ast.walk(tree):
+                    if isinstance(node, ast.Constant) and isinstance(node.value, str):
+                        self.assertNotIn("%", node.value)
+                    if isinstance(node, ast.FormattedValue):
+                        self.assertIsInstance(node.value, ast.Name)
+                        self.assertIsNone(node.format_spec)
+
+    def test_no_local_is_called_like_a_class_or_an_import(self):
+        for file, text, tree in parsed_files():
+            with self.subTest(file=file):
+                taken = {node.name for node in tree.body if isinstance(node, ast.ClassDef)}
+                for node in tree.body:
+                    if isinstance(node, ast.ImportFrom):
+                        taken.update(alias.name for alias in node.names)
+                for function in tree.body:
+                    if isinstance(function, ast.FunctionDef):
+                        self.assertEqual((bound_names(function) - {function.name}) & taken, set())
+
     def test_names(self):
         for file, text, tree in parsed_files():
             with self.subTest(file=file):

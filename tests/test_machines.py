@@ -5,6 +5,7 @@ import unittest
 
 from freshrooms.errors import NoMachine, RoomError
 from freshrooms.machines import copied_machine, is_machine
+from tests.samples import ANYTHING, Pliant, Stubborn
 
 
 def ordinary():
@@ -64,12 +65,6 @@ MACHINES = [
     with_step(to=0, fills=(None, None)), with_step(to=2, fills=(0, "new", None)), with_step(asks=0, to=2, fills=(1,) * 3),
 ]
 
-ANYTHING = [
-    None, True, False, 0, 1, -1, 10 ** 5000, "", "a", "machine", b"a", [], (), {}, set(), object(), int, len,
-    [None], (None,), (None, None), ([], []), (["a"], []), ([], [(0, True, [])]), {"a": 1},
-    ("a", "b"), ((), ()), (1, 2), (True, False), ({}, {}), ([[]], [[]]), ([()], [()]),
-]
-
 SPOILED = {
     "the whole": [
         list(ordinary()), ordinary()[:1], ordinary() + ([],), (ordinary()[1], ordinary()[0]), [ordinary()], (ordinary(),),
@@ -120,24 +115,6 @@ SPOILED = {
         for asks, to, fills in [(1, 0, ()), ("any", 2, ()), ("any", 1, (1,)), ("any", 1, ()), ("any", 0, (0,))]
     ],
 }
-
-
-class Pliant:
-    """Equal to everything: no text, whatever it says."""
-
-    def __eq__(self, other):
-        return True
-
-    __hash__ = None
-
-
-class Stubborn:
-    """Fails wherever it is compared."""
-
-    def __eq__(self, other):
-        raise RuntimeError
-
-    __hash__ = None
 
 
 ODD = [
