@@ -1,6 +1,7 @@
 """Things that several tests hand in, and what they ask of refusals and lists."""
 
 import random
+import signal
 
 from freshrooms import errors
 
@@ -32,6 +33,24 @@ class Stubborn:
         raise RuntimeError
 
     __hash__ = None
+
+
+class AtOnce:
+    """Fails what takes longer than the seconds within it."""
+
+    def __init__(self, seconds):
+        self.seconds = seconds
+
+    def __enter__(self):
+        self.before = signal.signal(signal.SIGALRM, self.fail)
+        signal.alarm(self.seconds)
+
+    def __exit__(self, *error):
+        signal.alarm(0)
+        signal.signal(signal.SIGALRM, self.before)
+
+    def fail(self, *what):
+        raise AssertionError("the answer did not come at once")
 
 
 def check_refused(case, refusal, call, *handed):
@@ -106,3 +125,80 @@ def some_rows(many, most_signs, most_names):
             for place in range(chance.randint(1, most_signs))
         ])
     return rows
+
+
+def some_singles(many):
+    """Machines (8) whose steps ask for unlike things, so that most of them, but not all, are told singly."""
+    return [chance_single(random.Random(seed)) for seed in range(many)]
+
+
+def chance_single(chance):
+    signs = ["a", "b", "room"][:chance.randint(1, 3)]
+    keepers = [chance.randint(0, 3) for number in range(chance.randint(1, 6))]
+    rooms = []
+    for own in keepers:
+        steps = []
+        for sign in signs:
+            asked = ["any"] if chance.random() < 0.2 else ["fresh"] + list(range(own))
+            for asks in chance.sample(asked, chance.randint(len(asked) // 2, len(asked))):
+                to = chance.randrange(len(keepers))
+                steps.append((sign, asks, to, chance_fills(chance, own, keepers[to], asks)))
+        chance.shuffle(steps)
+        rooms.append((own, chance.random() < 0.4, steps))
+    return (signs, rooms)
+
+
+def chance_fills(chance, own, many, asks):
+    """Mostly unlike ones, now and then one twice: then two keepers hold one name."""
+    if chance.random() < 0.3:
+        return tuple(chance.choice(["new", None] + list(range(own))) for number in range(many))
+    things = [thing for thing in ["new"] + list(range(own)) if thing != asks] + [None] * many
+    return tuple(chance.sample(things, many))
+
+
+def shuffled(plain, chance):
+    """The same machine with its rooms, but room 0, and the keepers of each room in another order."""
+    signs, rooms = plain
+    places = [0] + chance.sample(range(1, len(rooms)), len(rooms) - 1)
+    orders = [chance.sample(range(own), own) for own, good, steps in rooms]
+
+    def turned_case(room, case):
+        if case is None:
+            return None
+        new = orders[room] + [rooms[room][0]]
+        return (places.index(case[0]), tuple(new.index(case[1][old]) for old in orders[case[0]]))
+
+    return (list(signs), [
+        (rooms[room][0], rooms[room][1], [
+            [turned_case(room, cases[old]) for old in orders[room] + [rooms[room][0]]] for cases in rooms[room][2]
+        ])
+        for room in places
+    ])
+
+
+def doubled(plain, chance):
+    """The same machine with each room twice; which of the two is come to is left to chance."""
+    signs, rooms = plain
+    return (list(signs), [
+        (own, good, [
+            [case and (case[0] + len(rooms) * chance.randint(0, 1), case[1]) for case in cases] for cases in steps
+        ])
+        for own, good, steps in rooms + rooms
+    ])
+
+
+def great_plain(chance, rooms=12, keepers=3, good=0.5, nowhere=0.0):
+    """A small plain machine as great as can be: three signs, and keepers gathered room by room."""
+    owns = [min(number, keepers) for number in range(rooms)]
+
+    def case(own, end):
+        most = max(many for many in owns if many <= end)
+        if chance.random() < nowhere:
+            return None
+        to = chance.choice([room for room, many in enumerate(owns) if many == most or (many < most and chance.random() < 0.1)])
+        return (to, tuple(chance.sample(range(end), owns[to])))
+
+    return (["a", "b", "c"], [
+        (own, chance.random() < good, [[case(own, own) for number in range(own)] + [case(own, own + 1)] for sign in "abc"])
+        for own in owns
+    ])

@@ -2,14 +2,13 @@
 
 import copy
 import itertools
-import signal
 import unittest
 
 from freshrooms.errors import NoWay
 from freshrooms.going import behind, first_standing, fitting, lets_by, walked, way_by
 from freshrooms.machines import is_machine
 from freshrooms.rows import exchanged, shape_of
-from tests.samples import check_refused, some_machines, some_rows
+from tests.samples import AtOnce, check_refused, some_machines, some_rows
 
 
 def ordinary():
@@ -60,24 +59,6 @@ def all_ways(machine, row):
             )
         ]
     return ways
-
-
-class AtOnce:
-    """Fails what takes longer than the seconds within it."""
-
-    def __init__(self, seconds):
-        self.seconds = seconds
-
-    def __enter__(self):
-        self.before = signal.signal(signal.SIGALRM, self.fail)
-        signal.alarm(self.seconds)
-
-    def __exit__(self, *error):
-        signal.alarm(0)
-        signal.signal(signal.SIGALRM, self.before)
-
-    def fail(self, *what):
-        raise AssertionError("the answer did not come at once")
 
 
 class StandingTest(unittest.TestCase):

@@ -5,6 +5,7 @@ import unittest
 
 from freshrooms.plains import is_plain, is_small, plain_lets, read_by, stands_behind
 from freshrooms.rows import exchanged, shape_of
+from tests.oracles import read_slowly
 from tests.samples import ANYTHING, Pliant, Stubborn, some_plains, some_rows
 
 
@@ -151,17 +152,6 @@ ODD = [
         with_held((1, (thing, 0))), with_last((1, (0, thing))),
     ]
 ]
-
-
-def read_slowly(plain, standing, sign, name):
-    """The standing behind, told apart from the program: each case is asked whether it is the one."""
-    signs, rooms = plain
-    for place, cases in enumerate(rooms[standing[0]][2]):
-        for number, case in enumerate(cases):
-            holding = [keeper for keeper, held in enumerate(standing[1]) if held == name]
-            if signs[place] == sign and case is not None and number == (holding + [len(standing[1])])[0]:
-                return (case[0], tuple(name if fill == len(standing[1]) else standing[1][fill] for fill in case[1]))
-    return None
 
 
 class IsPlainTest(unittest.TestCase):
@@ -321,7 +311,7 @@ class RowsTest(unittest.TestCase):
             for row in some_rows(25, 8, 5):
                 standing = (0, ())
                 for sign, name in row:
-                    standing = standing and read_slowly(plain, standing, sign, name)
+                    standing = read_slowly(plain, standing, sign, name)
                 self.assertEqual(stands_behind(plain, row), standing)
                 told = standing is not None and plain[1][standing[0]][1]
                 self.assertIs(plain_lets(plain, row), told)
