@@ -1,10 +1,8 @@
 """Two plain machines compared: a table that tells them alike, or a row that parts them [19]."""
 
 from freshrooms.errors import NoFit, TooGreat
-from freshrooms.pairs import agrees, first_standings, held_by_both, read_by_both, steps_from
+from freshrooms.pairs import FIRST_PAIR, agrees, first_standings, held_by_both, read_by_both, steps_from
 from freshrooms.plains import is_small
-
-FIRST_PAIR = (0, 0, ())
 
 
 def compared(one, other, pair=None):

@@ -3,6 +3,7 @@
 from freshrooms.plains import read_by
 
 NOWHERE = -1
+FIRST_PAIR = (0, 0, ())
 
 
 def pair_behind(one, other, pair, sign, i, j):

@@ -157,3 +157,144 @@ def rows_of(signs, many):
             for row in told for sign in signs for name in range(len({name for other, name in row}) + 1)
         ]
     return told
+
+
+def alike_slowly(one, other, pair=(0, 0, ())):
+    """Whether all pairs that are come to from the pair agree."""
+    told, waiting = {pair}, [pair]
+    while waiting:
+        held = waiting.pop()
+        if not agree_slowly(one, other, held):
+            return False
+        later = set(after_slowly(one, other, held).values()) - told
+        told |= later
+        waiting.extend(later)
+    return True
+
+
+def found_slowly(plain):
+    """The rooms that are come to from room 0, in the order in which they are found, each with the case that finds it."""
+    finders = {0: None}
+    for room in range(len(plain[1])):
+        if room >= len(finders):
+            break
+        room = list(finders)[room]
+        for place, cases in enumerate(plain[1][room][2]):
+            for number, case in enumerate(cases):
+                if case is not None:
+                    finders.setdefault(case[0], (room, place, number))
+    return finders
+
+
+def fills_beside(plain, room, number, many):
+    """All fills of so many keepers that the case of this number may have."""
+    own = plain[1][room][0]
+    return sorted(itertools.permutations(range(own + (number == own)), many))
+
+
+def least_faults(plain, least):
+    """What the document says of the least machine of a plain machine, and isn't so."""
+    faults = []
+    if least[0] != plain[0] or not alike_slowly(plain, least):
+        faults.append("it doesn't let the same rows by")
+    finders = found_slowly(least)
+    if list(finders) != list(range(len(least[1]))):
+        faults.append("rooms aren't numbered as they are found, or are not come to")
+    parted = parted_slowly(least, least)
+    dead = [room for room in range(len(least[1])) if (room, -1, ()) not in parted]
+    if dead not in ([], [0]):
+        faults.append("no row leads from a room to a good one")
+    for room, (own, good, steps) in enumerate(least[1]):
+        for keeper in range(own):
+            if (room, room, tuple((other, other) for other in range(own) if other != keeper)) not in parted:
+                faults.append("a keeper doesn't matter")
+        for place, cases in enumerate(steps):
+            for number, case in enumerate(cases):
+                faults.extend(case_faults(least, parted, dead, finders, (room, place, number), case))
+    if any(p != q and -1 not in (p, q) and (p, q, shared) not in parted for p, q, shared in all_pairs(least, least)):
+        faults.append("a pair of two unlike rooms is alike")
+    return faults
+
+
+def case_faults(least, parted, dead, finders, at, case):
+    if case is None:
+        return []
+    if case[0] in dead:
+        return ["a case leads where no row leads to a good room"]
+    if finders[case[0]] == at:
+        return [] if list(case[1]) == sorted(case[1]) else ["the fills of a case that finds a room don't rise"]
+    for fills in fills_beside(least, at[0], at[2], len(case[1])):
+        shared = tuple((i, fills.index(name)) for i, name in enumerate(case[1]) if name in fills)
+        if fills < case[1] and (case[0], case[0], shared) not in parted:
+            return ["fills are not the least that lead to a standing that is alike"]
+    return []
+
+
+GOOD_BY = {
+    "both": lambda ours, theirs: ours and theirs,
+    "either": lambda ours, theirs: ours or theirs,
+    "first": lambda ours, theirs: ours and not theirs,
+    "one": lambda ours, theirs: (ours and not theirs) or (theirs and not ours),
+}
+
+
+def good_slowly(plain, room):
+    return room != -1 and plain[1][room][1]
+
+
+def keepers_joined(one, other, pair):
+    """The joined room's keepers: ("p", i) and, those of q that aren't shared, ("q", j)."""
+    p, q, shared = pair
+    ours = [("p", i) for i in range(0 if p == -1 else one[1][p][0])]
+    return ours + [("q", j) for j in range(0 if q == -1 else other[1][q][0]) if j not in [later for i, later in shared]]
+
+
+def joined_slowly(word, one, other):
+    """The joined machine with its pairs, however many there are."""
+    pairs, rooms = [(0, 0, ())], []
+    for pair in pairs:
+        keepers = keepers_joined(one, other, pair)
+        after = after_slowly(one, other, pair)
+        steps = []
+        for sign in one[0]:
+            cases = []
+            for keeper in keepers + [None]:
+                i, j = holding(keeper, pair[2])
+                later = after[sign, i, j]
+                if later != (-1, -1, ()) and later not in pairs:
+                    pairs.append(later)
+                fills = tuple(
+                    keepers.index(source) if source in keepers else len(keepers)
+                    for source in sources(one, other, pair, later, sign, i, j)
+                )
+                cases.append(None if later == (-1, -1, ()) else (pairs.index(later), fills))
+            steps.append(cases)
+        good = GOOD_BY[word](good_slowly(one, pair[0]), good_slowly(other, pair[1]))
+        rooms.append((len(keepers), good, steps))
+    return (list(one[0]), rooms), pairs
+
+
+def holding(keeper, shared):
+    """The keepers of p and of q that hold the name of a joined keeper."""
+    if keeper is None:
+        return None, None
+    side, number = keeper
+    return (number, dict(shared).get(number)) if side == "p" else (None, number)
+
+
+def sources(one, other, pair, later, sign, i, j):
+    """For each keeper of the joined room behind, the joined keeper whose name it holds, or "read"."""
+    partner = dict((theirs, ours) for ours, theirs in pair[2])
+    for side, number in keepers_joined(one, other, later):
+        plain, room, held = (one, pair[0], i) if side == "p" else (other, pair[1], j)
+        own = plain[1][room][0]
+        cases = plain[1][room][2][plain[0].index(sign)]
+        fill = cases[own if held is None else held][1][number]
+        if fill == own:
+            # The name read may be held by a keeper of the other room.
+            told = ("q", j) if side == "p" else ("p", i)
+            yield "read" if told[1] is None else told
+        elif side == "q" and fill in partner:
+            yield ("p", partner[fill])
+        else:
+            yield (side, fill)

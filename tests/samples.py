@@ -202,3 +202,10 @@ def great_plain(chance, rooms=12, keepers=3, good=0.5, nowhere=0.0):
         (own, chance.random() < good, [[case(own, own) for number in range(own)] + [case(own, own + 1)] for sign in "abc"])
         for own in owns
     ])
+
+
+def with_rooms(rooms, keepers=0, signs=("a",)):
+    """A plain machine of so many rooms, all good, with as many keepers in each but room 0, and no case told."""
+    return (list(signs), [
+        (own, True, [[None] * (own + 1) for sign in signs]) for own in [0] + [keepers] * (rooms - 1)
+    ])

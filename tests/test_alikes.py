@@ -9,7 +9,7 @@ from freshrooms.compares import compared
 from freshrooms.errors import TooGreat
 from freshrooms.plains import is_plain
 from tests.oracles import parted_slowly
-from tests.samples import AtOnce, check_refused, doubled, great_plain, lists_within, shuffled, some_plains
+from tests.samples import AtOnce, check_refused, doubled, great_plain, lists_within, shuffled, some_plains, with_rooms
 
 
 def parted_at(room, own, keeper):
@@ -176,7 +176,7 @@ class RefusedTest(unittest.TestCase):
         for rooms, keepers, small in [
             (12, 3, True), (1, 3, True), (13, 0, False), (13, 3, False), (2, 4, False), (12, 4, False), (200, 6, False),
         ]:
-            plain = (["a"], [(0, True, [[None]])] + [(keepers, True, [[None] * (keepers + 1)]) for room in range(rooms - 1)])
+            plain = with_rooms(rooms, keepers)
             self.assertTrue(is_plain(plain))
             if small:
                 self.assertEqual(matters(plain), [[]] * rooms)

@@ -12,7 +12,7 @@ from freshrooms.rows import exchanged, is_name
 from tests.oracles import (
     after_slowly, agree_slowly, all_pairs, firsts_slowly, let_slowly, parted_slowly, read_slowly, rows_of,
 )
-from tests.samples import AtOnce, check_refused, chance_plain, doubled, great_plain, lists_within, shuffled, some_plains
+from tests.samples import AtOnce, check_refused, chance_plain, doubled, great_plain, lists_within, shuffled, some_plains, with_rooms
 
 FIRST = (0, 0, ())
 
@@ -288,12 +288,6 @@ class GreatTest(CheckingTest):
             with AtOnce(60):
                 told = compared(one, other)
             self.check_apart(one, other, FIRST, told)
-
-
-def with_rooms(rooms, keepers=0, signs=("a",)):
-    return (list(signs), [(0, True, [[None] for sign in signs])] + [
-        (keepers, True, [[None] * (keepers + 1) for sign in signs]) for room in range(rooms - 1)
-    ])
 
 
 class RefusedTest(unittest.TestCase):

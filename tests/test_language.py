@@ -67,6 +67,10 @@ def top_names(tree):
     return names
 
 
+def is_call_of(node, names):
+    return isinstance(node, ast.Call) and isinstance(node.func, ast.Name) and node.func.id in names
+
+
 class LanguageTest(unittest.TestCase):
     def test_the_folder(self):
         names = [path.name for path in package_files()]
@@ -169,6 +173,68 @@ class LanguageTest(unittest.TestCase):
                 for node in ast.walk(tree):
                     if isinstance(node, ast.Name) and isinstance(node.ctx, ast.Load):
                         self.assertIn(node.id, own | set(OWN_NAMES), node.lineno)
+
+    def test_classes_hold_methods_alone(self):
+        methods, values = set(), set()
+        for file, text, tree in parsed_files():
+            with self.subTest(file=file):
+                for node in ast.walk(tree):
+                    if isinstance(node, ast.ClassDef):
+                        self.assertIn(node, tree.body)
+                        for part in node.body:
+                            self.assertIsInstance(part, (ast.FunctionDef, ast.Pass))
+                        methods |= {part.name for part in node.body if isinstance(part, ast.FunctionDef)}
+                    if isinstance(node, ast.Attribute) and isinstance(node.ctx, ast.Store):
+                        values.add(node.attr)
+        self.assertEqual(methods & values, set())
+        self.assertEqual((methods | values) & set(dir(str) + dir(int) + dir(list) + dir(dict) + dir(set) + dir(bytes)), {"__init__"})
+
+    def test_sets_are_not_kept_and_not_walked(self):
+        for file, text, tree in parsed_files():
+            with self.subTest(file=file):
+                kept = {
+                    node for node in ast.walk(tree)
+                    if isinstance(node, ast.Set) or is_call_of(node, ["set", "frozenset"])
+                }
+                for node in ast.walk(tree):
+                    if is_call_of(node, ["sorted", "len"]) and not node.keywords:
+                        kept -= set(node.args)
+                    if isinstance(node, ast.Compare):
+                        kept -= set(node.comparators)
+                self.assertEqual({node.lineno for node in kept}, set())
+
+    def test_walks_are_walked_at_once(self):
+        for file, text, tree in parsed_files():
+            with self.subTest(file=file):
+                kept = {
+                    node for node in ast.walk(tree)
+                    if is_call_of(node, ["zip", "enumerate", "reversed", "range"]) or (
+                        isinstance(node, ast.Call) and isinstance(node.func, ast.Attribute)
+                        and node.func.attr in ("items", "keys", "values")
+                    )
+                }
+                for node in ast.walk(tree):
+                    if isinstance(node, (ast.For, ast.comprehension)):
+                        kept.discard(node.iter)
+                    if is_call_of(node, ["list", "tuple", "dict", "sorted", "sum", "any", "all", "enumerate", "zip"]):
+                        kept -= set(node.args[:1])
+                self.assertEqual({node.lineno for node in kept}, set())
+
+    def test_no_keywords_but_those_that_are_told(self):
+        for file, text, tree in parsed_files():
+            with self.subTest(file=file):
+                for node in ast.walk(tree):
+                    if isinstance(node, ast.Call) and node.keywords:
+                        self.assertTrue(is_call_of(node, ["sorted", "min", "max", "sum", "enumerate", "zip"]), node.lineno)
+
+    def test_the_top_of_a_module(self):
+        for file, text, tree in parsed_files():
+            with self.subTest(file=file):
+                self.assertTrue(ast.get_docstring(tree))
+                for node in tree.body[1:]:
+                    self.assertIsInstance(node, (ast.ImportFrom, ast.FunctionDef, ast.ClassDef, ast.Assign))
+                    if isinstance(node, ast.Assign):
+                        ast.literal_eval(node.value)
 
     def test_methods(self):
         own = set()
